@@ -22,12 +22,33 @@ func (f *file) write(text string, now times.Event) {
 
 func (f *file) remove() { *f = file{} }
 
+// isVersion says whether f and the other are one version of the file: an
+// event makes one text, so that the texts need not be asked.
+func (f file) isVersion(other file) bool {
+	return f.birth == other.birth && f.changes == other.changes
+}
+
+// settle makes f, chosen out of two that were in conflict, a new version that
+// is behind both of them.
+func (f *file) settle(one, other file, now times.Event) {
+	if f.isThere() {
+		f.birth = now
+		f.changes = times.Greatest(one.changes, other.changes, now.Alone())
+	}
+}
+
 // knowledge is what a replica knows of a path.
 type knowledge struct {
 	known times.Time
 }
 
-func (k *knowledge) hear(t times.Time) { k.known = times.Greatest(k.known, t) }
+func (k *knowledge) hear(all ...times.Time) {
+	k.known = times.Greatest(k.known, times.Greatest(all...))
+}
+
+func (k knowledge) hasBirthOf(f file) bool { return k.known.Has(f.birth) }
+
+func (k knowledge) hasChangesOf(f file) bool { return f.changes.Within(k.known) }
 
 func (k knowledge) isJust(t times.Time) bool { return k.known == t }
 

@@ -24,7 +24,7 @@ func New(self int) *Replica {
 // Write writes a text; the path and the text are such as may be.
 func (r *Replica) Write(path string, text string) api.Errno {
 	rec := r.recordOf(path)
-	if r.countIsFull() || !rec.isThere() && r.files() >= api.MaxFiles {
+	if r.countIsFull() || r.hasNoRoomFor(rec) {
 		return api.ErrFull
 	}
 	now := r.next()
@@ -82,6 +82,11 @@ func (r *Replica) count() int { return r.common[r.self] }
 
 // countIsFull says whether the count can go no higher.
 func (r *Replica) countIsFull() bool { return r.count() >= api.MaxCount }
+
+// hasNoRoomFor says whether a file of this record would be one too many.
+func (r *Replica) hasNoRoomFor(rec record) bool {
+	return !rec.isThere() && r.files() >= api.MaxFiles
+}
 
 func (r *Replica) files() int {
 	n := 0

@@ -69,6 +69,57 @@ func (t *Net) Look(r int) (api.State, api.Errno) {
 	return t.replicas[r].Look(), api.OK
 }
 
+// PullPath pulls a path (P4).
+func (t *Net) PullPath(to int, from int, path string) (int, api.Errno) {
+	place, source, e := t.placesOf(to, from, path)
+	if e != api.OK {
+		return api.Nothing, e
+	}
+	return place.PullPath(source, path)
+}
+
+// Pull pulls all (P5).
+func (t *Net) Pull(to int, from int) ([]api.Change, api.Errno) {
+	return t.Round([]api.Pair{{To: to, From: from}})
+}
+
+// Resolve ends a conflict (P6).
+func (t *Net) Resolve(to int, from int, path string, theirs bool) api.Errno {
+	place, source, e := t.placesOf(to, from, path)
+	if e != api.OK {
+		return e
+	}
+	return place.Resolve(source, path, theirs)
+}
+
+// Round pulls by several pairs (P7).
+func (t *Net) Round(pairs []api.Pair) ([]api.Change, api.Errno) {
+	if !t.arePairs(pairs...) {
+		return nil, api.ErrNumber
+	}
+	if !areApart(pairs) {
+		return nil, api.ErrBusy
+	}
+	pulls := t.pullsOf(pairs)
+	var changes []api.Change
+	for _, p := range pulls {
+		if p.refusal != api.OK {
+			return nil, p.refusal
+		}
+		changes = append(changes, p.changes...)
+	}
+	for i, p := range pulls {
+		t.replicas[pairs[i].To] = p.after
+	}
+	return changes, api.OK
+}
+
+// Pack tells all of a net (P8).
+func (t *Net) Pack() string { return "" }
+
+// Unpack reads what Pack told (P8).
+func Unpack(text string) (*Net, api.Errno) { return nil, api.OK }
+
 // has says whether r is a replica. A nil net has none: a caller who went on
 // past an error of New is refused, too.
 func (t *Net) has(r int) bool { return t != nil && 0 <= r && r < len(t.replicas) }
@@ -84,20 +135,14 @@ func (t *Net) placeOf(r int, path string) (*replica.Replica, api.Errno) {
 	return t.replicas[r], api.OK
 }
 
-// Pull pulls all (P5).
-func (t *Net) Pull(to int, from int) ([]api.Change, api.Errno) { return nil, api.OK }
-
-// PullPath pulls a path (P4).
-func (t *Net) PullPath(to int, from int, path string) (int, api.Errno) { return 0, api.OK }
-
-// Resolve ends a conflict (P6).
-func (t *Net) Resolve(to int, from int, path string, theirs bool) api.Errno { return api.OK }
-
-// Round pulls by several pairs (P7).
-func (t *Net) Round(pairs []api.Pair) ([]api.Change, api.Errno) { return nil, api.OK }
-
-// Pack tells all of a net (P8).
-func (t *Net) Pack() string { return "" }
-
-// Unpack reads what Pack told (P8).
-func Unpack(text string) (*Net, api.Errno) { return nil, api.OK }
+// placesOf is the replicas to and from, unless they or the path are refused.
+func (t *Net) placesOf(to int, from int, path string) (place, source *replica.Replica, e api.Errno) {
+	if !t.arePairs(api.Pair{To: to, From: from}) {
+		return nil, nil, api.ErrNumber
+	}
+	place, e = t.placeOf(to, path)
+	if e != api.OK {
+		return nil, nil, e
+	}
+	return place, t.replicas[from], api.OK
+}

@@ -19,6 +19,12 @@ func (e Event) Alone() Time {
 	return t
 }
 
+// Has says whether the event is one of those that t has.
+func (t Time) Has(e Event) bool { return t[e.Replica] >= e.Number }
+
+// Within says whether none of t's numbers is above the other's.
+func (t Time) Within(other Time) bool { return Greatest(t, other) == other }
+
 // Greatest is, number by number, the greatest one of all; all noughts, if
 // there are none.
 func Greatest(all ...Time) Time {
