@@ -59,11 +59,11 @@ func (r *Replica) Resolve(from *Replica, path string, theirs bool) api.Errno {
 	return api.OK
 }
 
-// pathsOf is every path of which a record is kept in one of two replicas,
+// pathsOf is every path of which a record is kept in one of the replicas,
 // rising.
-func pathsOf(one, other *Replica) []string {
+func pathsOf(all ...*Replica) []string {
 	var paths []string
-	for _, r := range []*Replica{one, other} {
+	for _, r := range all {
 		for path := range r.records {
 			paths = append(paths, path)
 		}

@@ -39,7 +39,7 @@ func wantRecord(t *testing.T, r *Replica, path string, want record) {
 
 func wantRecords(t *testing.T, r *Replica, want ...string) {
 	t.Helper()
-	if got := pathsOf(r, r); !slices.Equal(got, want) {
+	if got := pathsOf(r); !slices.Equal(got, want) {
 		t.Errorf("P5: records of %q, want %q", got, want)
 	}
 }
@@ -199,7 +199,7 @@ func TestPullPathTwiceChangesNothing(t *testing.T) {
 
 func wantSame(t *testing.T, one, other *Replica) {
 	t.Helper()
-	if one.common != other.common || !slices.Equal(pathsOf(one, one), pathsOf(other, other)) {
+	if one.common != other.common || !slices.Equal(pathsOf(one), pathsOf(other)) {
 		t.Fatalf("P9: unlike: %+v, %+v", one, other)
 	}
 	for path := range one.records {

@@ -2,8 +2,11 @@
 package reunion
 
 import (
+	"strings"
+
 	"reunion/api"
 	"reunion/replica"
+	"reunion/told"
 )
 
 // Net is all replicas.
@@ -114,11 +117,22 @@ func (t *Net) Round(pairs []api.Pair) ([]api.Change, api.Errno) {
 	return changes, api.OK
 }
 
-// Pack tells all of a net (P8).
-func (t *Net) Pack() string { return "" }
+// Pack tells all of a net (P8). Where there is none, there is nothing to tell.
+func (t *Net) Pack() string {
+	if !t.has(0) {
+		return ""
+	}
+	return told.Seal(strings.Join(t.linesOf(), "\n") + "\n")
+}
 
 // Unpack reads what Pack told (P8).
-func Unpack(text string) (*Net, api.Errno) { return nil, api.OK }
+func Unpack(text string) (*Net, api.Errno) {
+	t, isNet := netOf(text)
+	if !isNet {
+		return nil, api.ErrText
+	}
+	return t, api.OK
+}
 
 // has says whether r is a replica. A nil net has none: a caller who went on
 // past an error of New is refused, too.
@@ -129,7 +143,7 @@ func (t *Net) placeOf(r int, path string) (*replica.Replica, api.Errno) {
 	if !t.has(r) {
 		return nil, api.ErrNumber
 	}
-	if !isPath(path) {
+	if !replica.IsPath(path) {
 		return nil, api.ErrPath
 	}
 	return t.replicas[r], api.OK

@@ -1,8 +1,9 @@
-package reunion
+package replica
 
 import "reunion/api"
 
-func isPath(path string) bool {
+// IsPath says whether a file may have this path.
+func IsPath(path string) bool {
 	if len(path) < 1 || len(path) > api.MaxPath {
 		return false
 	}
